@@ -1,0 +1,1 @@
+"""Greatestback: tables of yes and no, put one behind another."""

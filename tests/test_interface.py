@@ -1,0 +1,95 @@
+"""The names, the parameters and the kinds of what the interface lists, and where each is defined."""
+
+import ast
+import importlib
+import inspect
+import pathlib
+import unittest
+
+PACKAGE = pathlib.Path(__file__).resolve().parent.parent / "greatestback"
+
+# The parameters of each function as the interface writes them; a star is followed by names only.
+FUNCTIONS = {
+    "lots": {
+        "is_lot": "(value, below=6)", "lot_of": "(numbers, *, below=6)", "join_lots": "(first, second)",
+        "meet_lots": "(first, second)", "lot_without": "(first, second)", "holds": "(first, second)",
+        "sorted_lots": "(lots)", "all_lots": "(below)",
+    },
+    "tabletext": {
+        "format_table": "(table)", "parse_table": "(text)", "format_word": "(table)", "parse_word": "(word)",
+        "format_lot": "(lot)", "parse_lot": "(text)",
+    },
+}
+
+CLASSES = {
+    ("errors", "BadText"): {"__init__": "(self, line)"},
+    ("errors", "BadName"): {"__init__": "(self, name)"},
+    ("errors", "BadEdit"): {"__init__": "(self, edit)"},
+    ("errors", "BadTable"): {"__init__": "(self, row)"},
+    ("errors", "BadPaper"): {"__init__": "(self, paper)"},
+    ("errors", "BadPlace"): {"__init__": "(self, place)"},
+    ("errors", "BadLot"): {"__init__": "(self, lot)"},
+    ("errors", "NoName"): {"__init__": "(self, name)"},
+    ("errors", "NoFit"): {"__init__": "(self, edit)"},
+    ("errors", "UnlikeSizes"): {"__init__": "(self, first, second)"},
+    ("errors", "NotSquare"): {"__init__": "(self, sides)"},
+    ("errors", "NotOrder"): {"__init__": "(self, fault)"},
+    ("errors", "NotJoined"): {"__init__": "(self, lot)"},
+    ("errors", "NotRectangular"): {"__init__": "(self, fault)"},
+    ("errors", "TooMany"): {"__init__": "(self, many, limit)"},
+    ("errors", "NoWayBack"): {"__init__": "(self, paper)"},
+    ("tables", "Table"): {
+        "__init__": "(self, rows, *, width=None)", "filled": "(height, width, *, yes=False)", "same": "(side)",
+        "of_lots": "(lots, width)", "__mul__": "(self, other)", "__or__": "(self, other)", "__and__": "(self, other)",
+        "__invert__": "(self)", "__str__": "(self)", "__iter__": "(self)", "__eq__": "(self, other)",
+        "__ne__": "(self, other)", "__getitem__": "(self, at)",
+    },
+}
+
+PROPERTIES = {
+    ("tables", "Table"): ["height", "width", "many_yes", "size", "rows", "columns", "row_lots", "column_lots"],
+}
+
+STATIC = ["filled", "same", "of_lots"]
+
+
+def module(name):
+    return importlib.import_module(f"greatestback.{name}")
+
+
+def defined_in(name):
+    """The names that the file itself defines by def and class at its top level."""
+    tree = ast.parse((PACKAGE / f"{name}.py").read_text())
+    return [node.name for node in tree.body if isinstance(node, (ast.FunctionDef, ast.ClassDef))]
+
+
+class Interface(unittest.TestCase):
+
+    def test_functions(self):
+        for name, functions in FUNCTIONS.items():
+            for function, parameters in functions.items():
+                self.assertEqual(str(inspect.signature(getattr(module(name), function))), parameters, function)
+                self.assertIn(function, defined_in(name))
+
+    def test_classes_and_their_methods(self):
+        for (name, told), methods in CLASSES.items():
+            self.assertIn(told, defined_in(name))
+            held = vars(getattr(module(name), told))
+            for method, parameters in methods.items():
+                function = held[method].__func__ if method in STATIC else held[method]
+                self.assertEqual(str(inspect.signature(function)), parameters, f"{told}.{method}")
+                self.assertIs(isinstance(held[method], staticmethod), method in STATIC)
+
+    def test_properties(self):
+        for (name, told), names in PROPERTIES.items():
+            held = vars(getattr(module(name), told))
+            for one in names:
+                self.assertIsInstance(held[one], property)
+                self.assertIsNone(held[one].fset)
+
+    def test_the_base_error_is_defined_in_its_file(self):
+        self.assertIn("GreatestbackError", defined_in("errors"))
+
+    def test_side(self):
+        self.assertIs(type(module("lots").SIDE), int)
+        self.assertEqual(module("lots").SIDE, 6)
