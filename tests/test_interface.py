@@ -19,6 +19,21 @@ FUNCTIONS = {
         "format_table": "(table)", "parse_table": "(text)", "format_word": "(table)", "parse_word": "(word)",
         "format_lot": "(lot)", "parse_lot": "(text)",
     },
+    "edits": {
+        "is_edit": "(value)", "fits": "(table, edit)", "apply_edit": "(table, edit)", "inverse_edit": "(table, edit)",
+        "apply_edits": "(table, edits)", "difference": "(first, second)", "place_rows": "(table, placing)",
+        "place_columns": "(table, placing)",
+    },
+    "behind": {
+        "then": "(first, second)", "middles": "(first, second, row, column)", "then_all": "(tables)",
+        "power": "(table, exponent)", "through": "(lot, table)", "turned": "(table)", "opposite": "(table)",
+        "is_inside": "(first, second)", "first_outside": "(first, second)",
+    },
+    "joins": {
+        "joined_rows": "(table)", "joined_columns": "(table)", "is_joined": "(table, value)",
+        "rows_within": "(table, lot)", "inner": "(table, lot)", "greatest_without": "(table, column)",
+        "crossing": "(table, lot)", "crossing_back": "(table, lot)",
+    },
 }
 
 CLASSES = {
@@ -44,10 +59,17 @@ CLASSES = {
         "__invert__": "(self)", "__str__": "(self)", "__iter__": "(self)", "__eq__": "(self, other)",
         "__ne__": "(self, other)", "__getitem__": "(self, at)",
     },
+    ("lattice", "Lattice"): {
+        "__init__": "(self, table)", "__iter__": "(self)", "__contains__": "(self, x)", "place_of": "(self, lot)",
+        "either": "(self, first, second)", "both": "(self, first, second)", "either_all": "(self, lots)",
+        "both_all": "(self, lots)", "under": "(self, lot)", "over": "(self, lot)", "next_over": "(self, lot)",
+        "longest": "(self)",
+    },
 }
 
 PROPERTIES = {
     ("tables", "Table"): ["height", "width", "many_yes", "size", "rows", "columns", "row_lots", "column_lots"],
+    ("lattice", "Lattice"): ["table", "how_many", "bottom", "top"],
 }
 
 STATIC = ["filled", "same", "of_lots"]
