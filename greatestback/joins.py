@@ -2,6 +2,7 @@
 
 from greatestback.behind import through, turned
 from greatestback.checks import check_number
+from greatestback.errors import NotJoined
 from greatestback.lots import check_lot, holds, is_lot, join_all, join_lots, sorted_lots
 
 
@@ -26,6 +27,13 @@ def _all_joins(lots):
 def is_joined(table, value):
     """True if value is a joined row of the table."""
     return is_lot(value, table.width) and inner(table, value) == value
+
+
+def check_joined(table, lot):
+    """Raise BadLot if lot is not a lot below the width of the table, or else NotJoined if it is not joined."""
+    check_lot(lot, table.width)
+    if not is_joined(table, lot):
+        raise NotJoined(lot)
 
 
 def rows_within(table, lot):

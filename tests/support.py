@@ -109,6 +109,46 @@ def row_sets(table):
     return [{k for k in range(table.width) if row[k]} for row in table.rows]
 
 
+def near(value):
+    """Values close to a value: a part changed, exchanged, left out, put twice, or of another kind."""
+    if isinstance(value, bool):
+        return [not value, int(value), None]
+    if isinstance(value, int):
+        return [value + 1, value - 1, -value - 1, value + HUGE, bool(value), str(value), (value,), [value], None]
+    if isinstance(value, str):
+        return [value + " ", value.upper(), value[:-1], "", "other", (value,), None]
+    if isinstance(value, Table):
+        return tables_near(value)
+    return near_tuple(value)
+
+
+def tables_near(table):
+    """Tables with one cell changed, turned over, with a row more, and what only looks like the table."""
+    cells = list(itertools.product(range(table.height), range(table.width)))
+    changed = []
+    for i, k in cells:
+        rows = table.rows
+        rows[i][k] = not rows[i][k]
+        changed.append(Table(rows, width=table.width))
+    turned = Table(table.columns, width=table.height)
+    taller = Table((table.rows + [[False] * table.width])[:SIDE], width=table.width)
+    return changed + [turned, taller, Table([]), table.rows, tuple(table), str(table), table.row_lots, None]
+
+
+def near_tuple(value):
+    places = range(len(value))
+    found = [list(value), (value,), [value], value + (None,), value + value[:1], value + value[-1:], value[::-1], None]
+    for place in places:
+        found.append(value[:place] + value[place + 1:])
+        found += [value[:place] + (one,) + value[place + 1:] for one in near(value[place])]
+        found += [value[:place] + (other,) + value[place + 1:] for other in value if not same_kinds(other, value[place])]
+    for one, other in itertools.combinations(places, 2):
+        items = list(value)
+        items[one], items[other] = items[other], items[one]
+        found.append(tuple(items))
+    return found
+
+
 class Case(unittest.TestCase):
 
     def same(self, one, other):
@@ -132,6 +172,13 @@ class Case(unittest.TestCase):
         """As refused, by position and by name in the contrary sequence."""
         self.refused(error, attributes, function, *args)
         self.refused(error, attributes, function, **backwards(function, args))
+
+    def judges(self, told, function, args, values):
+        """The judge says of each value what told says of it, the value being its last argument."""
+        for value in values:
+            before = kept(value)
+            self.assertIs(function(*args, value), told(*args, value), f"{function} {short(args)} {short(value)}")
+            self.same(value, before)
 
     def answers(self, expected, function, *args):
         """The call gives the value, by position and by name, each time anew, and changes nothing passed."""

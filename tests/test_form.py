@@ -101,13 +101,16 @@ class Form(unittest.TestCase):
 
     def test_calls(self):
         for name, _, tree in self.trees():
+            given = {one for node in tree.body if isinstance(node, ast.FunctionDef) for one in names_of(node)}
+            taken = {alias.name for node in tree.body if isinstance(node, ast.ImportFrom) and node.module in LIBRARY
+                     for alias in node.names}
             own = {node.name for _, _, one in self.trees() for node in ast.walk(one)
                    if isinstance(node, (ast.FunctionDef, ast.ClassDef))}
             for node in ast.walk(tree):
                 if isinstance(node, ast.Call):
                     place = f"{name}:{node.lineno}"
                     if isinstance(node.func, ast.Name):
-                        self.assertIn(node.func.id, own | BUILTINS, place)
+                        self.assertIn(node.func.id, own | BUILTINS | given | taken, place)
                         if node.func.id in TAKE_LISTS:
                             self.assertNotIsInstance(node.args[0], ast.GeneratorExp, place)
                     else:

@@ -34,6 +34,28 @@ FUNCTIONS = {
         "rows_within": "(table, lot)", "inner": "(table, lot)", "greatest_without": "(table, column)",
         "crossing": "(table, lot)", "crossing_back": "(table, lot)",
     },
+    "unmade": {
+        "unmade_rows": "(table)", "unmade_columns": "(table)", "is_unmade": "(table, value)", "makers": "(table, lot)",
+        "first_rows": "(table)", "first_columns": "(table)", "unmet_rows": "(table)", "core": "(table)",
+        "unmade_factors": "(table)",
+    },
+    "primes": {
+        "own_columns": "(table, lot)", "is_prime": "(table, value)", "prime_rows": "(table)",
+        "prime_paper": "(table, lot)", "is_prime_paper": "(table, paper)", "bad_rows": "(table)",
+        "bad_paper": "(table, lot)", "bad_row": "(table)", "is_bad_paper": "(table, paper)",
+    },
+    "overand": {
+        "spread_fault": "(table)", "is_spread_fault": "(table, paper)", "spreads": "(table)", "turned_fault": "(table)",
+        "is_turned_fault": "(table, paper)",
+    },
+    "greatest": {
+        "back_and_forth": "(table, other)", "is_under": "(table, other)", "greatest_under": "(table)",
+        "is_greatest_under": "(table, other)", "barring_cell": "(table, row, column)",
+    },
+    "wayback": {
+        "leads_back": "(table, other)", "way_back": "(table)", "way_paper": "(table)", "is_way_paper": "(table, paper)",
+        "small_way": "(table)", "mutual_way": "(table)", "are_mutual": "(first, second)", "all_ways": "(table)",
+    },
 }
 
 CLASSES = {
@@ -71,6 +93,8 @@ PROPERTIES = {
     ("tables", "Table"): ["height", "width", "many_yes", "size", "rows", "columns", "row_lots", "column_lots"],
     ("lattice", "Lattice"): ["table", "how_many", "bottom", "top"],
 }
+
+NUMBERS = {("lots", "SIDE"): 6, ("overand", "SPREAD_LIMIT"): 16, ("wayback", "TRY_CELLS"): 9}
 
 STATIC = ["filled", "same", "of_lots"]
 
@@ -112,6 +136,7 @@ class Interface(unittest.TestCase):
     def test_the_base_error_is_defined_in_its_file(self):
         self.assertIn("GreatestbackError", defined_in("errors"))
 
-    def test_side(self):
-        self.assertIs(type(module("lots").SIDE), int)
-        self.assertEqual(module("lots").SIDE, 6)
+    def test_numbers(self):
+        for (name, told), number in NUMBERS.items():
+            self.assertIs(type(getattr(module(name), told)), int)
+            self.assertEqual(getattr(module(name), told), number)

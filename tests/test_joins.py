@@ -9,7 +9,7 @@ from support import ODD, Case, is_int, is_lot, lot_order, lots_below, row_sets, 
 
 TABLES = list(small_tables(4)) + list(sample_tables(2))
 FEW = list(sample_tables(1, seed=5))
-# 64 joined rows: each choice of rows gives another lot.
+# Two with 64 joined rows, where each choice of rows gives another lot; and rows that lack one number each.
 LARGEST = [Table.same(6), ~Table.same(6), Table.of_lots([(5,), (0,), (4,), (1,), (3,), (2,)], 6)]
 
 

@@ -5,14 +5,21 @@ import unittest
 
 from greatestback.behind import power, then_all
 from greatestback.edits import apply_edits, difference
+from greatestback.greatest import barring_cell, greatest_under, is_greatest_under, is_under
 from greatestback.joins import joined_columns, joined_rows
 from greatestback.lattice import Lattice
+from greatestback.overand import is_spread_fault, is_turned_fault, spread_fault, spreads, turned_fault
+from greatestback.primes import bad_paper, bad_row, bad_rows, is_bad_paper, own_columns, prime_paper, prime_rows
 from greatestback.tables import Table
+from greatestback.unmade import core, first_columns, is_unmade, makers, unmade_factors, unmet_rows
+from greatestback.wayback import all_ways, is_way_paper, leads_back, mutual_way, small_way, way_back, way_paper
 
 # Far more than any call needs, and far less than one that tries all choices of 64 joined rows.
 SECONDS = 2
 
-LARGEST = [Table.same(6), ~Table.same(6), Table.filled(6, 6, yes=True)]
+# The first one has 64 joined rows, the last one 40 and a bad row.
+LARGEST = [Table.same(6), ~Table.same(6), Table.filled(6, 6, yes=True),
+           Table.of_lots([(0, 1), (0, 2), (1, 2), (3,), (4,), (5,)], 6)]
 
 
 class Speed(unittest.TestCase):
@@ -44,3 +51,35 @@ class Speed(unittest.TestCase):
             for function in [lattice.under, lattice.over, lattice.next_over, lattice.place_of]:
                 self.at_once(function, lattice.bottom)
                 self.at_once(function, lattice.top)
+
+    def test_unmade_and_prime_rows(self):
+        for table in LARGEST:
+            for function in [core, first_columns, unmade_factors, unmet_rows, prime_rows, bad_rows, bad_row, spreads]:
+                self.at_once(function, table)
+            for function in [is_unmade, makers, own_columns, prime_paper, bad_paper]:
+                self.at_once(function, table, (0, 1, 2, 3, 4, 5))
+            self.at_once(is_bad_paper, table, ((0, 1), (0, 2), (1, 2)))
+
+    def test_faults(self):
+        for function in [is_spread_fault, is_turned_fault]:
+            for table in LARGEST:
+                self.at_once(function, table, ((0, 1), (0, 2), (0, 1, 2, 3, 4, 5)))
+        for function in [spread_fault, turned_fault]:
+            self.at_once(function, Table.of_lots([(0,), (1,), (2,), (3, 4, 5)] + [(0, 1)] * 2, 6))
+            self.at_once(function, ~Table.same(6))
+
+    def test_ways(self):
+        for table in LARGEST:
+            way = self.at_once(greatest_under, table)
+            for function in [is_under, is_greatest_under, leads_back]:
+                self.at_once(function, table, way)
+            for function in [way_back, way_paper]:
+                self.at_once(function, table)
+            self.at_once(is_way_paper, table, ("back", way))
+            self.at_once(barring_cell, table, 5, 5)
+        self.at_once(small_way, Table.same(6))
+        self.at_once(mutual_way, Table.same(6))
+
+    def test_all_ways_of_nine_cells(self):
+        for table in [Table.same(3), Table.filled(3, 3), Table.filled(3, 3, yes=True)]:
+            self.at_once(all_ways, table)
