@@ -3,7 +3,7 @@
 from greatestback.behind import through, turned
 from greatestback.checks import check_number
 from greatestback.errors import NotJoined
-from greatestback.lots import check_lot, holds, is_lot, join_all, join_lots, sorted_lots
+from greatestback.lots import check_lot, is_lot, join_all, join_lots, numbers_within, sorted_lots
 
 
 def joined_rows(table):
@@ -39,7 +39,7 @@ def check_joined(table, lot):
 def rows_within(table, lot):
     """The lot of the numbers of the rows that are within lot."""
     check_lot(lot, table.width)
-    return tuple([number for number, row in enumerate(table.row_lots) if holds(lot, row)])
+    return numbers_within(table.row_lots, lot)
 
 
 def inner(table, lot):

@@ -71,6 +71,11 @@ def holds(first, second):
     return all([number in first for number in second])
 
 
+def numbers_within(lots, lot):
+    """The lot of the numbers of those lots, in a list, that are within lot."""
+    return tuple([number for number, other in enumerate(lots) if holds(lot, other)])
+
+
 def sorted_lots(lots):
     """A list of the lots in lot order, without repeats."""
     _check_lots(lots)

@@ -2,7 +2,7 @@
 
 from greatestback.behind import turned
 from greatestback.joins import crossing_back
-from greatestback.lots import check_lot, holds, is_lot, join_all, sorted_lots
+from greatestback.lots import check_lot, holds, is_lot, join_all, numbers_within, sorted_lots
 from greatestback.tables import Table
 
 
@@ -36,7 +36,7 @@ def makers(table, lot):
 def maker_numbers(table, lot):
     """The lot of the numbers of the makers of lot, in the list of the unmade rows."""
     check_lot(lot, table.width)
-    return tuple([number for number, row in enumerate(unmade_rows(table)) if holds(lot, row)])
+    return numbers_within(unmade_rows(table), lot)
 
 
 def first_rows(table):
@@ -67,5 +67,5 @@ def unmade_factors(table):
     """The pair of tables (left, right): the rows of right are the unmade rows, and left then right is table."""
     unmade = unmade_rows(table)
     right = Table.of_lots(unmade, table.width)
-    left = Table([[holds(row, lot) for lot in unmade] for row in table.row_lots], width=len(unmade))
+    left = Table.of_lots([numbers_within(unmade, row) for row in table.row_lots], len(unmade))
     return (left, right)

@@ -141,7 +141,8 @@ def near_tuple(value):
     for place in places:
         found.append(value[:place] + value[place + 1:])
         found += [value[:place] + (one,) + value[place + 1:] for one in near(value[place])]
-        found += [value[:place] + (other,) + value[place + 1:] for other in value if not same_kinds(other, value[place])]
+        others = [other for other in value if not same_kinds(other, value[place])]
+        found += [value[:place] + (other,) + value[place + 1:] for other in others]
     for one, other in itertools.combinations(places, 2):
         items = list(value)
         items[one], items[other] = items[other], items[one]

@@ -56,6 +56,30 @@ FUNCTIONS = {
         "leads_back": "(table, other)", "way_back": "(table)", "way_paper": "(table)", "is_way_paper": "(table, paper)",
         "small_way": "(table)", "mutual_way": "(table)", "are_mutual": "(first, second)", "all_ways": "(table)",
     },
+    "solve": {
+        "greatest_right": "(first, target)", "greatest_left": "(second, target)",
+        "greatest_both": "(first, second, target)", "solve_right": "(first, target)", "solve_left": "(second, target)",
+        "solve_both": "(first, second, target)", "is_bar_right": "(first, target, paper)",
+        "is_bar_left": "(second, target, paper)", "is_bar_both": "(first, second, target, paper)",
+        "solve_by_way": "(first, target)",
+    },
+    "kin": {
+        "is_match": "(first, second, value)", "first_match": "(first, second)",
+        "carry": "(first, second, placing, lot)", "paper_of_match": "(first, second, placing)",
+        "kin_paper": "(first, second)", "is_kin_paper": "(first, second, paper)", "are_kin": "(first, second)",
+        "match_of_paper": "(first, second, paper)", "self_paper": "(table)", "back_paper": "(first, second, paper)",
+        "across_paper": "(first, second, paper)", "chain_papers": "(first, middle, last, paper, next_paper)",
+        "kin_difference": "(first, second)",
+    },
+    "ordertable": {
+        "is_order": "(table)", "order_fault": "(table)", "order_of_pairs": "(many, pairs)", "direct_pairs": "(order)",
+        "down_lots": "(order)", "up_lots": "(order)", "is_down_lot": "(order, value)", "down_of": "(order, lot)",
+        "beside": "(order, other)", "upon": "(order, other)",
+    },
+    "kinorder": {
+        "kin_order": "(table)", "order_things": "(table)", "order_paper": "(table)", "down_of_row": "(table, lot)",
+        "row_of_down": "(table, lot)", "is_kin_order": "(table, order, paper)",
+    },
 }
 
 CLASSES = {
@@ -94,7 +118,9 @@ PROPERTIES = {
     ("lattice", "Lattice"): ["table", "how_many", "bottom", "top"],
 }
 
-NUMBERS = {("lots", "SIDE"): 6, ("overand", "SPREAD_LIMIT"): 16, ("wayback", "TRY_CELLS"): 9}
+NUMBERS = {
+    ("lots", "SIDE"): 6, ("overand", "SPREAD_LIMIT"): 16, ("wayback", "TRY_CELLS"): 9, ("kin", "MATCH_LIMIT"): 5,
+}
 
 STATIC = ["filled", "same", "of_lots"]
 

@@ -7,9 +7,18 @@ from greatestback.behind import power, then_all
 from greatestback.edits import apply_edits, difference
 from greatestback.greatest import barring_cell, greatest_under, is_greatest_under, is_under
 from greatestback.joins import joined_columns, joined_rows
+from greatestback.kin import (
+    across_paper, are_kin, back_paper, carry, chain_papers, first_match, is_kin_paper, is_match, kin_difference,
+    kin_paper, match_of_paper, paper_of_match,
+)
+from greatestback.kinorder import down_of_row, is_kin_order, kin_order, order_paper, row_of_down
 from greatestback.lattice import Lattice
+from greatestback.ordertable import (
+    beside, direct_pairs, down_lots, down_of, is_down_lot, order_fault, order_of_pairs, up_lots,
+)
 from greatestback.overand import is_spread_fault, is_turned_fault, spread_fault, spreads, turned_fault
 from greatestback.primes import bad_paper, bad_row, bad_rows, is_bad_paper, own_columns, prime_paper, prime_rows
+from greatestback.solve import is_bar_both, solve_both, solve_by_way, solve_left, solve_right
 from greatestback.tables import Table
 from greatestback.unmade import core, first_columns, is_unmade, makers, unmade_factors, unmet_rows
 from greatestback.wayback import all_ways, is_way_paper, leads_back, mutual_way, small_way, way_back, way_paper
@@ -83,3 +92,41 @@ class Speed(unittest.TestCase):
     def test_all_ways_of_nine_cells(self):
         for table in [Table.same(3), Table.filled(3, 3), Table.filled(3, 3, yes=True)]:
             self.at_once(all_ways, table)
+
+    def test_equations(self):
+        for first in LARGEST:
+            for second in LARGEST:
+                self.at_once(solve_right, first, second)
+                self.at_once(solve_left, first, second)
+                self.at_once(solve_both, first, second, ~first)
+                self.at_once(is_bar_both, first, second, ~first, (5, 5))
+        self.at_once(solve_by_way, Table.same(6), ~Table.same(6))
+
+    def test_64_joined_rows_on_both_sides(self):
+        table, match = Table.same(6), (5, 3, 1, 0, 2, 4)
+        paper = self.at_once(paper_of_match, table, table, match)
+        self.at_once(is_match, table, table, match)
+        self.at_once(carry, table, table, match, (0, 1, 2, 3, 4, 5))
+        for function in [is_kin_paper, match_of_paper, back_paper, across_paper]:
+            self.at_once(function, table, table, paper)
+        self.at_once(chain_papers, table, table, table, paper, paper)
+        self.at_once(is_kin_order, table, table, paper)
+        for other in LARGEST[1:]:
+            self.at_once(is_match, table, other, match)
+
+    def test_five_unmade_rows_with_a_match_and_without(self):
+        rows = [(1, 2), (0,), (0, 2), (3,), (4,)]
+        tables = [Table.same(5), Table.of_lots([(0, 1), (0, 2), (1, 2), (3,), (4,)], 5), Table.of_lots(rows, 5)]
+        for first in tables:
+            for second in tables:
+                for function in [first_match, kin_paper, are_kin, kin_difference]:
+                    self.at_once(function, first, second)
+
+    def test_orders(self):
+        chain = self.at_once(order_of_pairs, 6, [(number + 1, number) for number in range(5)] * 14)
+        for order in [chain, Table.same(6)]:
+            for function in [order_fault, direct_pairs, down_lots, up_lots, kin_order, order_paper]:
+                self.at_once(function, order)
+            for function in [down_of, is_down_lot, down_of_row, row_of_down]:
+                self.at_once(function, order, (0, 1, 2, 3, 4, 5))
+        self.at_once(beside, Table.same(3), Table.same(3))

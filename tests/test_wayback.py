@@ -122,11 +122,12 @@ class Papers(Case):
 
     def test_tables_that_are_not_crosswise_and_other_words(self):
         table = Table.of_lots([(0,), (0, 1)], 3)
-        for other in [table, Table([]), Table.filled(3, 3), Table.filled(2, 2), Table.same(6), None, ((0,), (0,), (0,))]:
+        others = [table, Table([]), Table.filled(3, 3), Table.filled(2, 2), Table.same(6), None, ((0,), (0,), (0,))]
+        for other in others:
             self.same([is_way_paper(table, (word, other)) for word in ["back", "bad", "", table]], [False] * 4)
         way = way_back(table)
         self.answers(True, is_way_paper, table, ("back", way))
-        for paper in [["back", way], ("back", way, way), ("back",), ("Back", way), ("bad", way), (way, "back"), "back", way]:
+        for paper in [["back", way], ("back", way, way), ("back",), ("Back", way), ("bad", way), (way, "back"), "back"]:
             self.answers(False, is_way_paper, table, paper)
 
 
@@ -183,7 +184,8 @@ class Mutual(Case):
         for table in sample_tables(1):
             if bad_of(table) == []:
                 way = mutual_way(table)
-                self.judges(is_mutual_told, are_mutual, [table], [one for one in tables_near(way) if isinstance(one, Table)])
+                tables = [one for one in tables_near(way) if isinstance(one, Table)]
+                self.judges(is_mutual_told, are_mutual, [table], tables)
                 self.assertIs(are_mutual(way, table), True)
 
     def test_each_of_the_two_must_lead_back(self):

@@ -1,6 +1,7 @@
 """What the document's words say, walked slowly: sets of numbers, all choices, all lists, all tables."""
 
 import itertools
+import random
 
 from greatestback.tables import Table
 from support import lot_order, row_sets
@@ -18,11 +19,26 @@ def within(one, other):
     return set(one) <= set(other)
 
 
+def remembered(function):
+    """The function of a table, with its answers kept: the slow walks are asked again and again."""
+    answers = {}
+
+    def answer(table):
+        key = (table.width, tuple(table))
+        if key not in answers:
+            answers[key] = function(table)
+        told = answers[key]
+        return dict(told) if isinstance(told, dict) else list(told)
+    return answer
+
+
+@remembered
 def rows_of(table):
     """The lots of the rows, from the cells."""
     return [lot(row) for row in row_sets(table)]
 
 
+@remembered
 def columns_of(table):
     """The lots of the columns, from the cells."""
     return [lot(i for i in range(table.height) if table.rows[i][k]) for k in range(table.width)]
@@ -36,6 +52,7 @@ def joins_of(lots):
     return joins
 
 
+@remembered
 def joined_of(table):
     return joins_of(rows_of(table))
 
@@ -53,10 +70,12 @@ def unmade_among(joined):
     return [row for row in joined if join(lower(joined, row)) != row]
 
 
+@remembered
 def unmade_of(table):
     return unmade_among(joined_of(table))
 
 
+@remembered
 def unmade_columns_of(table):
     return unmade_among(joins_of(columns_of(table)))
 
@@ -93,6 +112,7 @@ def is_prime_of(joined, row):
     return not within(row, join([one for one in joined if not within(row, one)]))
 
 
+@remembered
 def bad_of(table):
     """The bad rows: unmade and not prime."""
     joined = joined_of(table)
@@ -175,3 +195,78 @@ def greatest_under_of(table):
 
 def count_yes(table):
     return sum(row.count(True) for row in table.rows)
+
+
+@remembered
+def maker_lots_of(table):
+    """For each joined row the lot of the numbers of its makers."""
+    unmade = unmade_of(table)
+    return {row: tuple(i for i, one in enumerate(unmade) if within(one, row)) for row in joined_of(table)}
+
+
+def is_placing_told(value, many):
+    return type(value) is tuple and all(type(item) is int for item in value) and sorted(value) == list(range(many))
+
+
+def is_match_of(first, second, value):
+    """Point 44 word by word."""
+    many = len(unmade_of(first))
+    if len(unmade_of(second)) != many or not is_placing_told(value, many):
+        return False
+    lots, targets = maker_lots_of(first).values(), set(maker_lots_of(second).values())
+    return len(lots) == len(targets) and all(lot(value[i] for i in one) in targets for one in lots)
+
+
+def carried_of(first, second, match, row):
+    """The joined row of second whose makers are those to which the match sends the makers of a joined row."""
+    wanted = lot(match[i] for i in maker_lots_of(first)[row])
+    return [one for one, makers in maker_lots_of(second).items() if makers == wanted][0]
+
+
+def is_kin_paper_of(first, second, paper):
+    """Point 43: the sizes and the three equations."""
+    if type(paper) is not tuple or len(paper) != 4 or not all(isinstance(part, Table) for part in paper):
+        return False
+    y, z, w, v = paper
+    if (y.height, y.width, z.height, z.width) != (first.width, second.width, second.width, first.width):
+        return False
+    if (w.height, w.width, v.height, v.width) != (second.height, first.height, first.height, second.height):
+        return False
+    reached = then_of(first, y)
+    return then_of(reached, z) == first and then_of(w, reached) == second and then_of(v, second) == reached
+
+
+def fault_of(table):
+    """Point 50: the first thing, pair or triple that keeps a square table from being an order."""
+    rows, things = table.rows, range(table.height)
+    faults = [("self", i) for i in things if not rows[i][i]]
+    faults += [("both", i, j) for i in things for j in things if i < j and rows[i][j] and rows[j][i]]
+    faults += [("through", i, j, k) for i, j, k in itertools.product(things, repeat=3)
+               if rows[i][j] and rows[j][k] and not rows[i][k]]
+    return faults[0] if faults else None
+
+
+def orders_below(most):
+    """All orders of up to that many things."""
+    found = []
+    for many in range(most + 1):
+        pairs = [(i, j) for i in range(many) for j in range(many) if i != j]
+        for cells in itertools.product([False, True], repeat=len(pairs)):
+            told = dict(zip(pairs, cells))
+            if not any(yes and told[j, i] for (i, j), yes in told.items()):
+                table = table_of(many, many, lambda i, j: i == j or told[i, j])
+                if fault_of(table) is None:
+                    found.append(table)
+    return found
+
+
+def some_orders(each=8, seed=6):
+    """Some orders of five and six things, the same ones in each run."""
+    source = random.Random(seed)
+    found = []
+    for many, share, _ in itertools.product([5, 6], [15, 40, 70], range(each)):
+        names = source.sample(range(many), many)
+        sets = [{k for k in range(5) if source.randrange(100) < share} for _ in range(many)]
+        # Unlike sets within one another are an order; equal ones are told apart by their names.
+        found.append(table_of(many, many, lambda i, j: i == j or sets[names[j]] < sets[names[i]]))
+    return found
