@@ -1,6 +1,6 @@
-"""Checks of numbers that several modules share."""
+"""Checks of numbers and counts that several modules share."""
 
-from greatestback.errors import BadPlace
+from greatestback.errors import BadPlace, TooMany
 
 
 def is_number(value, below):
@@ -12,6 +12,12 @@ def check_number(value, below):
     """Raise BadPlace(value) if value is not an integer, at least 0 and less than below."""
     if not is_number(value, below):
         raise BadPlace(value)
+
+
+def check_many(many, limit):
+    """Raise TooMany(many, limit) if the count is greater than its limit."""
+    if many > limit:
+        raise TooMany(many, limit)
 
 
 def is_number_pair(value, size):

@@ -3,9 +3,10 @@
 from itertools import permutations
 
 from greatestback.behind import through, turned
-from greatestback.checks import is_placing_of
-from greatestback.errors import BadPaper, BadPlace, TooMany
+from greatestback.checks import check_many, is_placing_of
+from greatestback.errors import BadPaper, BadPlace
 from greatestback.joins import check_joined, greatest_without, joined_rows
+from greatestback.likenesses import placing_back
 from greatestback.lots import join_all, numbers_within
 from greatestback.solve import greatest_left
 from greatestback.tables import Table
@@ -44,9 +45,8 @@ def first_match(first, second):
     """The first match from first to second in the order of placings, or None."""
     many = len(unmade_rows(first))
     other = len(unmade_rows(second))
-    for count in (many, other):
-        if count > MATCH_LIMIT:
-            raise TooMany(count, MATCH_LIMIT)
+    check_many(many, MATCH_LIMIT)
+    check_many(other, MATCH_LIMIT)
     lots = _maker_lots(first)
     targets = _maker_lots(second)
     if other != many or len(targets) != len(lots):
@@ -74,15 +74,11 @@ def _carried(first, second, placing, lot):
     return join_all([rows[number] for number in _moved(placing, maker_numbers(first, lot))])
 
 
-def _inverse(placing):
-    return tuple([placing.index(number) for number in range(len(placing))])
-
-
 def paper_of_match(first, second, placing):
     """The kin paper of the match placing from first to second."""
     _check_match(first, second, placing)
     there = _columns_carried(first, second, placing)
-    back = _columns_carried(second, first, _inverse(placing))
+    back = _columns_carried(second, first, placing_back(placing))
     reached = first * back
     return (back, there, greatest_left(reached, second), greatest_left(second, reached))
 

@@ -1,8 +1,8 @@
 """Orders as tables, their down lots and up lots, and sums of two orders."""
 
 from greatestback.behind import power, through
-from greatestback.checks import check_number, is_number_pair
-from greatestback.errors import BadPlace, NotOrder, TooMany
+from greatestback.checks import check_many, check_number, is_number_pair
+from greatestback.errors import BadPlace, NotOrder
 from greatestback.joins import joined_columns, joined_rows
 from greatestback.lots import SIDE, check_lot, is_lot
 from greatestback.tables import Table, check_square
@@ -114,7 +114,6 @@ def _sum_of(first, second, below):
     """The order of the things of first and then those of second, with the lot below under each thing of second."""
     shift = first.height
     many = shift + second.height
-    if many > SIDE:
-        raise TooMany(many, SIDE)
+    check_many(many, SIDE)
     shifted = [below + tuple([shift + number for number in lot]) for lot in second.row_lots]
     return Table.of_lots(first.row_lots + shifted, many)

@@ -2,7 +2,7 @@
 
 from itertools import product
 
-from greatestback.errors import TooMany
+from greatestback.checks import check_many
 from greatestback.lattice import Lattice
 from greatestback.primes import bad_rows
 
@@ -24,8 +24,7 @@ def turned_fault(table):
 def _small_lattice(table):
     """The lattice of the table. Raises TooMany if its joined rows are too many to try all triples."""
     lattice = Lattice(table)
-    if lattice.how_many > SPREAD_LIMIT:
-        raise TooMany(lattice.how_many, SPREAD_LIMIT)
+    check_many(lattice.how_many, SPREAD_LIMIT)
     return lattice
 
 

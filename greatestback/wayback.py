@@ -1,6 +1,7 @@
 """Tables that lead back for a table."""
 
-from greatestback.errors import NoWayBack, TooMany
+from greatestback.checks import check_many
+from greatestback.errors import NoWayBack
 from greatestback.greatest import back_and_forth, greatest_under, is_crosswise
 from greatestback.primes import bad_row, is_bad_paper, own_columns
 from greatestback.tables import Table
@@ -71,9 +72,7 @@ def all_ways(table):
 
 def check_cells(table, limit):
     """Raise TooMany if the table has more cells than the limit."""
-    many = table.height * table.width
-    if many > limit:
-        raise TooMany(many, limit)
+    check_many(table.height * table.width, limit)
 
 
 def all_tables(height, width):

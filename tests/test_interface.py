@@ -80,6 +80,23 @@ FUNCTIONS = {
         "kin_order": "(table)", "order_things": "(table)", "order_paper": "(table)", "down_of_row": "(table, lot)",
         "row_of_down": "(table, lot)", "is_kin_order": "(table, order, paper)",
     },
+    "likenesses": {
+        "is_placing": "(value, many)", "placing_then": "(first, second)", "placing_back": "(placing)",
+        "is_likeness": "(order, other, value)", "first_likeness": "(order, other)", "likenesses": "(order)",
+        "place_order": "(order, placing)",
+    },
+    "classsize": {
+        "same_joins": "(first, second)", "class_tables": "(table)", "class_size": "(table)",
+        "likeness_of": "(table, other)", "class_by_trying": "(table)",
+    },
+    "rounds": {
+        "is_own_square": "(table)", "squares_of_way": "(table, other)", "rounds": "(table)", "powers": "(table)",
+        "settled": "(table)",
+    },
+    "rectangular": {
+        "thrice": "(table)", "rectangular_fault": "(table)", "is_rectangular": "(table)",
+        "is_rectangular_fault": "(table, paper)", "rectangles": "(table)",
+    },
 }
 
 CLASSES = {
@@ -120,6 +137,7 @@ PROPERTIES = {
 
 NUMBERS = {
     ("lots", "SIDE"): 6, ("overand", "SPREAD_LIMIT"): 16, ("wayback", "TRY_CELLS"): 9, ("kin", "MATCH_LIMIT"): 5,
+    ("likenesses", "LIKENESS_LIMIT"): 5, ("rounds", "POWER_LIMIT"): 4,
 }
 
 STATIC = ["filled", "same", "of_lots"]

@@ -9,8 +9,8 @@ from greatestback.ordertable import down_lots
 from greatestback.tables import Table
 from support import ODD, Case, is_lot, lots_below, near, sample_tables, small_tables
 from words import (
-    bad_of, fault_of, first_bad_paper_of, is_kin_paper_of, join, joined_of, orders_below, own_of, rows_of, some_orders,
-    table_of, unmade_of, within,
+    bad_of, fault_of, first_bad_paper_of, is_kin_paper_of, join, joined_of, kin_order_of, orders_below, own_of, rows_of,
+    some_orders, table_of, unmade_of, within,
 )
 
 ALL = list(small_tables(6)) + list(sample_tables(5, seed=4)) + [Table.same(6), ~Table.same(6)]
@@ -20,11 +20,6 @@ LARGEST = Table.same(6)
 EMPTY = [Table([]), Table([], width=6), Table([[]] * 6), Table.filled(6, 6)]
 THREE = Table.of_lots([(0, 1), (0, 2), (1, 2)], 3)
 EXAMPLE = Table.of_lots([(1, 2), (2,), (0, 2), (0, 1, 2)], 3)
-
-
-def kin_order_told(table):
-    rows = unmade_of(table)
-    return table_of(len(rows), len(rows), lambda i, j: within(rows[j], rows[i]))
 
 
 def order_paper_told(table):
@@ -42,7 +37,7 @@ class KinOrder(Case):
 
     def test_things_and_cells(self):
         for table in BACK:
-            told = kin_order_told(table)
+            told = kin_order_of(table)
             self.same([kin_order(table), order_things(table)], [told, unmade_of(table)])
             self.same(fault_of(told), None)
 
@@ -50,7 +45,7 @@ class KinOrder(Case):
         for table in BACK:
             told = order_paper_told(table)
             self.same(order_paper(table), told)
-            self.assertIs(is_kin_paper_of(table, kin_order_told(table), told), True)
+            self.assertIs(is_kin_paper_of(table, kin_order_of(table), told), True)
             self.assertIs(is_kin_paper(table, kin_order(table), told), True)
             self.assertIs(is_kin_order(table, kin_order(table), told), True)
 
@@ -64,7 +59,7 @@ class KinOrder(Case):
             told = kin_order(order)
             self.assertEqual(sorted(map(len, told.row_lots)), sorted(map(len, order.row_lots)))
             self.assertIs(are_kin(order, told) if order.height <= 5 else True, True)
-            self.same(told, kin_order_told(order))
+            self.same(told, kin_order_of(order))
         order = Table.of_lots([(0, 1), (1,)], 2)
         self.answers(Table.of_lots([(0,), (0, 1)], 2), kin_order, order)
 
@@ -155,7 +150,7 @@ class Judge(Case):
 
     def test_a_paper_with_a_part_changed_and_any_value(self):
         for table in BACK[::60] + [EXAMPLE, LARGEST]:
-            order, paper = kin_order_told(table), order_paper_told(table)
+            order, paper = kin_order_of(table), order_paper_told(table)
             self.judges(is_kin_paper_of, is_kin_order, [table, order], [paper] + near(paper) + ODD)
 
     def test_other_orders_and_other_papers(self):

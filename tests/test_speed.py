@@ -4,6 +4,7 @@ import time
 import unittest
 
 from greatestback.behind import power, then_all
+from greatestback.classsize import class_by_trying, class_size, class_tables, likeness_of, same_joins
 from greatestback.edits import apply_edits, difference
 from greatestback.greatest import barring_cell, greatest_under, is_greatest_under, is_under
 from greatestback.joins import joined_columns, joined_rows
@@ -13,11 +14,14 @@ from greatestback.kin import (
 )
 from greatestback.kinorder import down_of_row, is_kin_order, kin_order, order_paper, row_of_down
 from greatestback.lattice import Lattice
+from greatestback.likenesses import first_likeness, is_likeness, likenesses, place_order
 from greatestback.ordertable import (
     beside, direct_pairs, down_lots, down_of, is_down_lot, order_fault, order_of_pairs, up_lots,
 )
 from greatestback.overand import is_spread_fault, is_turned_fault, spread_fault, spreads, turned_fault
 from greatestback.primes import bad_paper, bad_row, bad_rows, is_bad_paper, own_columns, prime_paper, prime_rows
+from greatestback.rectangular import rectangles, rectangular_fault, thrice
+from greatestback.rounds import is_own_square, powers, rounds, settled, squares_of_way
 from greatestback.solve import is_bar_both, solve_both, solve_by_way, solve_left, solve_right
 from greatestback.tables import Table
 from greatestback.unmade import core, first_columns, is_unmade, makers, unmade_factors, unmet_rows
@@ -130,3 +134,32 @@ class Speed(unittest.TestCase):
             for function in [down_of, is_down_lot, down_of_row, row_of_down]:
                 self.at_once(function, order, (0, 1, 2, 3, 4, 5))
         self.at_once(beside, Table.same(3), Table.same(3))
+
+    def test_likenesses_of_five_things_and_placings_of_six(self):
+        chain = order_of_pairs(5, [(number + 1, number) for number in range(4)])
+        nearly = order_of_pairs(5, [(4, 0)])
+        for order in [chain, nearly, Table.same(5)]:
+            self.at_once(likenesses, order)
+            for other in [chain, nearly, order_of_pairs(5, [(4, 0), (4, 1)])]:
+                self.at_once(first_likeness, order, other)
+        self.at_once(is_likeness, Table.same(6), Table.same(6), (5, 4, 3, 2, 1, 0))
+        self.at_once(place_order, Table.same(6), (5, 4, 3, 2, 1, 0))
+
+    def test_classes(self):
+        self.assertEqual(len(self.at_once(class_tables, Table.same(5))), 120)
+        self.at_once(class_size, Table.same(5))
+        self.at_once(same_joins, Table.same(6), ~Table.same(6))
+        for other in [Table.of_lots([(5,), (4,), (3,), (2,), (1,), (0,)], 6), ~Table.same(6)]:
+            self.at_once(likeness_of, Table.same(6), other)
+        for table in [Table.same(3), ~Table.same(3), Table.filled(3, 3)]:
+            self.at_once(class_by_trying, table)
+
+    def test_rounds_and_rectangles(self):
+        for table in [Table.same(4), Table.of_lots([(1,), (2,), (3,), (0, 1)], 4)]:
+            for function in [rounds, powers, settled]:
+                self.at_once(function, table)
+        for table in LARGEST:
+            for function in [is_own_square, thrice, rectangular_fault]:
+                self.at_once(function, table)
+            self.at_once(squares_of_way, table, table)
+        self.at_once(rectangles, Table.same(6))

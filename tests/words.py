@@ -246,6 +246,39 @@ def fault_of(table):
     return faults[0] if faults else None
 
 
+def is_likeness_of(order, other, value):
+    """Point 55 word by word."""
+    many, cells, others = order.height, order.rows, other.rows
+    if other.height != many or not is_placing_told(value, many):
+        return False
+    return all(cells[i][j] == others[value[i]][value[j]] for i in range(many) for j in range(many))
+
+
+def likenesses_of(order, other):
+    """All likenesses: itertools.permutations goes by the order of tuples."""
+    return [one for one in itertools.permutations(range(order.height)) if is_likeness_of(order, other, one)]
+
+
+def kin_order_of(table):
+    """The cells of point 53, whether or not a table leads back."""
+    rows = unmade_of(table)
+    return table_of(len(rows), len(rows), lambda i, j: within(rows[j], rows[i]))
+
+
+def same_joins_of(first, second):
+    """Point 56: equal sizes, joined rows and joined columns."""
+    if (first.height, first.width) != (second.height, second.width) or joined_of(first) != joined_of(second):
+        return False
+    return joins_of(columns_of(first)) == joins_of(columns_of(second))
+
+
+def class_table_of(table, placing):
+    """The table of the class that a likeness of the kin order gives."""
+    unmade = unmade_of(table)
+    lots = [join([unmade[placing[j]] for j, one in enumerate(unmade) if within(one, row)]) for row in rows_of(table)]
+    return table_of(table.height, table.width, lambda i, k: k in lots[i])
+
+
 def orders_below(most):
     """All orders of up to that many things."""
     found = []
