@@ -38,7 +38,8 @@ def _has_kind(part, kind):
     return isinstance(part, bool)
 
 
-def _check_edit(edit):
+def check_edit(edit):
+    """Raise BadEdit(edit) if edit is not an edit."""
     if not is_edit(edit):
         raise BadEdit(edit)
 
@@ -55,7 +56,7 @@ def _as_row_edit(edit):
 
 def fits(table, edit):
     """True if the edit fits the table."""
-    _check_edit(edit)
+    check_edit(edit)
     name = edit[0]
     if name == "turn":
         return True
@@ -120,7 +121,7 @@ def apply_edits(table, edits):
     """The table after the edits, each applied to the table that the one before leaves."""
     # No edit is applied before all are looked at: a bad one goes before one that does not fit.
     for edit in edits:
-        _check_edit(edit)
+        check_edit(edit)
     result = table
     for edit in edits:
         result = apply_edit(result, edit)

@@ -76,6 +76,11 @@ def numbers_within(lots, lot):
     return tuple([number for number, other in enumerate(lots) if holds(lot, other)])
 
 
+def numbers_holding(lots, lot):
+    """The lot of the numbers of those lots, in a list, that hold lot."""
+    return tuple([number for number, other in enumerate(lots) if holds(other, lot)])
+
+
 def sorted_lots(lots):
     """A list of the lots in lot order, without repeats."""
     _check_lots(lots)

@@ -7,8 +7,13 @@ from greatestback.tables import Table, row_line
 DIGITS = "0123456"
 
 
-def _is_digit(word):
-    return len(word) == 1 and word in DIGITS
+def is_digit(word, below):
+    """True if the word is one digit of an integer less than below, which is at most 7."""
+    return len(word) == 1 and word in DIGITS[:below]
+
+
+def _is_side(word):
+    return is_digit(word, SIDE + 1)
 
 
 def _is_row_line(line, width):
@@ -39,7 +44,7 @@ def parse_table(text):
 def _sides_of_line(line):
     """The height and the width that the first line of a text tells."""
     words = line.split(" ")
-    if len(words) != 3 or words[1] != "by" or not _is_digit(words[0]) or not _is_digit(words[2]):
+    if len(words) != 3 or words[1] != "by" or not _is_side(words[0]) or not _is_side(words[2]):
         raise BadText(1)
     return int(words[0]), int(words[2])
 
@@ -53,7 +58,7 @@ def format_word(table):
 def parse_word(word):
     """The table with that word."""
     parts = word.split(":")
-    if len(parts) != 3 or not _is_digit(parts[0]) or not _is_digit(parts[1]):
+    if len(parts) != 3 or not _is_side(parts[0]) or not _is_side(parts[1]):
         raise BadText(1)
     height, width = int(parts[0]), int(parts[1])
     # No row and one empty row are written alike, so only the height tells them apart.
@@ -74,7 +79,7 @@ def parse_lot(text):
     if text == "-":
         return ()
     words = text.split(",")
-    if not all([_is_digit(word) for word in words]):
+    if not all([is_digit(word, SIDE) for word in words]):
         raise BadText(1)
     lot = tuple([int(word) for word in words])
     if not is_lot(lot):

@@ -44,12 +44,16 @@ def check_way_back(table):
         raise NoWayBack(paper)
 
 
+def own_cells(table):
+    """The list of one cell for each unmade row: its first row and its least own column."""
+    check_way_back(table)
+    return [(row, own_columns(table, lot)[0]) for row, lot in zip(first_rows(table), unmade_rows(table))]
+
+
 def small_way(table):
     """The table that leads back with one yes cell for each unmade row."""
-    check_way_back(table)
-    columns = [own_columns(table, row)[0] for row in unmade_rows(table)]
-    cells = list(zip(columns, first_rows(table)))
-    rows = [[(row, column) in cells for column in range(table.height)] for row in range(table.width)]
+    cells = own_cells(table)
+    rows = [[(row, column) in cells for row in range(table.height)] for column in range(table.width)]
     return Table(rows, width=table.height)
 
 

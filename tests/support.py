@@ -150,6 +150,35 @@ def near_tuple(value):
     return found
 
 
+class Walk:
+    """What an engine must hold: every state is kept, with the place of the one that holds now."""
+
+    def __init__(self):
+        self.states, self.at = [{}], 0
+
+    def held(self):
+        return self.states[self.at]
+
+    def become(self, tables):
+        self.states = self.states[:self.at + 1] + [tables]
+        self.at += 1
+
+    def step(self, by):
+        if 0 <= self.at + by < len(self.states):
+            self.at += by
+            return True
+        return False
+
+
+def refusal(function, *args):
+    """The class of the error that a call raises, or None."""
+    try:
+        function(*args)
+    except GreatestbackError as error:
+        return type(error)
+    return None
+
+
 class Case(unittest.TestCase):
 
     def same(self, one, other):

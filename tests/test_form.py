@@ -11,7 +11,7 @@ FILES = sorted(PACKAGE.iterdir())
 LIBRARY = {"heapq", "math", "itertools", "collections"}
 BUILTINS = {
     "len", "range", "enumerate", "zip", "min", "max", "sum", "abs", "sorted", "reversed", "int", "str", "bool", "list",
-    "tuple", "dict", "set", "isinstance", "ord", "repr", "any", "all", "divmod", "iter", "next", "map",
+    "tuple", "dict", "set", "isinstance", "ord", "repr", "any", "all", "divmod", "iter", "next", "map", "type",
 }
 TAKE_LISTS = {"sorted", "any", "all", "sum", "min", "max"}
 BARRED = (ast.AsyncFunctionDef, ast.Await, ast.Div, ast.Import)
@@ -118,3 +118,33 @@ class Form(unittest.TestCase):
                         self.assertIn(node.func.attr, own | METHODS, place)
                 if isinstance(node, ast.Raise):
                     self.assertTrue(isinstance(node.exc, ast.Call) and node.exc.func.id in own, f"{name}:{node.lineno}")
+
+    def test_classes_are_told_by_their_names_alone(self):
+        for name, _, tree in self.trees():
+            named = [node.value for node in ast.walk(tree) if isinstance(node, ast.Attribute) and node.attr == "__name__"]
+            asked = [node for node in ast.walk(tree) if isinstance(node, ast.Name) and node.id == "type"]
+            self.assertEqual([call.func for call in named], asked, name)
+
+    def test_only_own_errors_are_caught(self):
+        own = [node.name for name, _, tree in self.trees() if name == "errors.py" for node in tree.body
+               if isinstance(node, ast.ClassDef)]
+        for name, _, tree in self.trees():
+            for node in ast.walk(tree):
+                if isinstance(node, ast.ExceptHandler):
+                    self.assertIsInstance(node.type, ast.Name, name)
+                    self.assertIn(node.type.id, own, name)
+
+    def test_only_names_stand_behind_a_star(self):
+        for name, _, tree in self.trees():
+            for node in ast.walk(tree):
+                if isinstance(node, ast.Starred):
+                    self.assertIsInstance(node.value, ast.Name, f"{name}:{node.lineno}")
+
+    def test_sets_are_made_only_where_they_are_used_up(self):
+        for name, _, tree in self.trees():
+            used = [node.args[0] for node in ast.walk(tree) if isinstance(node, ast.Call) and node.args
+                    and isinstance(node.func, ast.Name) and node.func.id in ("sorted", "len")]
+            for node in ast.walk(tree):
+                made = isinstance(node, ast.Call) and isinstance(node.func, ast.Name) and node.func.id == "set"
+                if made or isinstance(node, (ast.Set, ast.SetComp)):
+                    self.assertIn(node, used, f"{name}:{node.lineno}")

@@ -97,6 +97,20 @@ FUNCTIONS = {
         "thrice": "(table)", "rectangular_fault": "(table)", "is_rectangular": "(table)",
         "is_rectangular_fault": "(table, paper)", "rectangles": "(table)",
     },
+    "blocks": {
+        "is_full_block": "(table, value)", "block_table": "(blocks, height, width)", "is_cover": "(table, value)",
+        "greatest_blocks": "(table)", "prime_blocks": "(table)", "fewest_blocks": "(table)",
+        "block_factors": "(table, blocks)", "factor_blocks": "(first, second)",
+    },
+    "ranks": {
+        "row_rank": "(table)", "column_rank": "(table)", "block_rank": "(table)", "apart_rank": "(table)",
+        "are_apart": "(table, value)", "apart_cells": "(table)", "rank_paper": "(table)",
+        "is_rank_paper": "(table, paper)",
+    },
+    "verdict": {
+        "verdict_of": "(table)", "is_verdict": "(table, paper)", "verdict_lines": "(verdict)", "read_verdict": "(lines)",
+    },
+    "script": {"parse_command": "(line)", "run_line": "(engine, line)", "run_script": "(text)"},
 }
 
 CLASSES = {
@@ -128,16 +142,25 @@ CLASSES = {
         "both_all": "(self, lots)", "under": "(self, lot)", "over": "(self, lot)", "next_over": "(self, lot)",
         "longest": "(self)",
     },
+    ("engine", "Engine"): {
+        "__init__": "(self)", "__contains__": "(self, x)", "store": "(self, name, table)", "fetch": "(self, name)",
+        "drop": "(self, name)", "change": "(self, name, edit)", "compose": "(self, name, first, second)",
+        "undo": "(self)", "redo": "(self)", "way_of": "(self, name)", "order_of": "(self, name)",
+        "ranks_of": "(self, name)", "verdict_for": "(self, name)", "kin_of": "(self, first, second)",
+        "solve_of": "(self, first, second)",
+    },
 }
 
 PROPERTIES = {
     ("tables", "Table"): ["height", "width", "many_yes", "size", "rows", "columns", "row_lots", "column_lots"],
     ("lattice", "Lattice"): ["table", "how_many", "bottom", "top"],
+    ("engine", "Engine"): ["names", "done", "undone"],
 }
 
 NUMBERS = {
     ("lots", "SIDE"): 6, ("overand", "SPREAD_LIMIT"): 16, ("wayback", "TRY_CELLS"): 9, ("kin", "MATCH_LIMIT"): 5,
-    ("likenesses", "LIKENESS_LIMIT"): 5, ("rounds", "POWER_LIMIT"): 4,
+    ("likenesses", "LIKENESS_LIMIT"): 5, ("rounds", "POWER_LIMIT"): 4, ("blocks", "RANK_CELLS"): 16,
+    ("engine", "NAME_LIMIT"): 8, ("script", "SCRIPT_LIMIT"): 60,
 }
 
 STATIC = ["filled", "same", "of_lots"]

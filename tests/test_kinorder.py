@@ -9,8 +9,8 @@ from greatestback.ordertable import down_lots
 from greatestback.tables import Table
 from support import ODD, Case, is_lot, lots_below, near, sample_tables, small_tables
 from words import (
-    bad_of, fault_of, first_bad_paper_of, is_kin_paper_of, join, joined_of, kin_order_of, orders_below, own_of, rows_of,
-    some_orders, table_of, unmade_of, within,
+    bad_of, fault_of, first_bad_paper_of, is_kin_paper_of, join, joined_of, kin_order_of, order_paper_of, orders_below,
+    some_orders, unmade_of, within,
 )
 
 ALL = list(small_tables(6)) + list(sample_tables(5, seed=4)) + [Table.same(6), ~Table.same(6)]
@@ -20,17 +20,6 @@ LARGEST = Table.same(6)
 EMPTY = [Table([]), Table([], width=6), Table([[]] * 6), Table.filled(6, 6)]
 THREE = Table.of_lots([(0, 1), (0, 2), (1, 2)], 3)
 EXAMPLE = Table.of_lots([(1, 2), (2,), (0, 2), (0, 1, 2)], 3)
-
-
-def order_paper_told(table):
-    unmade, rows = unmade_of(table), rows_of(table)
-    own = [own_of(table, row) for row in unmade]
-    return (
-        table_of(table.width, len(unmade), lambda k, j: k in own[j]),
-        Table.of_lots(unmade, table.width),
-        table_of(len(unmade), table.height, lambda j, i: i == rows.index(unmade[j])),
-        table_of(table.height, len(unmade), lambda i, j: within(unmade[j], rows[i])),
-    )
 
 
 class KinOrder(Case):
@@ -43,7 +32,7 @@ class KinOrder(Case):
 
     def test_the_table_is_kin_to_it_by_the_order_paper(self):
         for table in BACK:
-            told = order_paper_told(table)
+            told = order_paper_of(table)
             self.same(order_paper(table), told)
             self.assertIs(is_kin_paper_of(table, kin_order_of(table), told), True)
             self.assertIs(is_kin_paper(table, kin_order(table), told), True)
@@ -150,7 +139,7 @@ class Judge(Case):
 
     def test_a_paper_with_a_part_changed_and_any_value(self):
         for table in BACK[::60] + [EXAMPLE, LARGEST]:
-            order, paper = kin_order_of(table), order_paper_told(table)
+            order, paper = kin_order_of(table), order_paper_of(table)
             self.judges(is_kin_paper_of, is_kin_order, [table, order], [paper] + near(paper) + ODD)
 
     def test_other_orders_and_other_papers(self):
@@ -164,7 +153,7 @@ class Judge(Case):
 
     def test_where_none_leads_back_no_paper_is_right(self):
         for table in BAD[:10]:
-            for paper in ODD + [order_paper_told(table)]:
+            for paper in ODD + [order_paper_of(table)]:
                 self.assertIs(is_kin_order(table, Table.same(3), paper), False)
 
     def test_an_order_must_be_one_whatever_the_paper_is(self):

@@ -2,10 +2,13 @@
 
 import time
 import unittest
+from itertools import product
 
 from greatestback.behind import power, then_all
+from greatestback.blocks import block_factors, block_table, fewest_blocks, greatest_blocks, is_cover
 from greatestback.classsize import class_by_trying, class_size, class_tables, likeness_of, same_joins
 from greatestback.edits import apply_edits, difference
+from greatestback.engine import Engine
 from greatestback.greatest import barring_cell, greatest_under, is_greatest_under, is_under
 from greatestback.joins import joined_columns, joined_rows
 from greatestback.kin import (
@@ -20,11 +23,14 @@ from greatestback.ordertable import (
 )
 from greatestback.overand import is_spread_fault, is_turned_fault, spread_fault, spreads, turned_fault
 from greatestback.primes import bad_paper, bad_row, bad_rows, is_bad_paper, own_columns, prime_paper, prime_rows
+from greatestback.ranks import apart_rank, are_apart, block_rank, column_rank, is_rank_paper, rank_paper, row_rank
 from greatestback.rectangular import rectangles, rectangular_fault, thrice
 from greatestback.rounds import is_own_square, powers, rounds, settled, squares_of_way
+from greatestback.script import parse_command, run_line, run_script
 from greatestback.solve import is_bar_both, solve_both, solve_by_way, solve_left, solve_right
 from greatestback.tables import Table
 from greatestback.unmade import core, first_columns, is_unmade, makers, unmade_factors, unmet_rows
+from greatestback.verdict import is_verdict, read_verdict, verdict_lines, verdict_of
 from greatestback.wayback import all_ways, is_way_paper, leads_back, mutual_way, small_way, way_back, way_paper
 
 # Far more than any call needs, and far less than one that tries all choices of 64 joined rows.
@@ -163,3 +169,47 @@ class Speed(unittest.TestCase):
                 self.at_once(function, table)
             self.at_once(squares_of_way, table, table)
         self.at_once(rectangles, Table.same(6))
+
+    def test_blocks(self):
+        for table in LARGEST:
+            blocks = self.at_once(greatest_blocks, table)
+            self.at_once(is_cover, table, (blocks * 70)[:70])
+            self.at_once(block_table, (blocks * 70)[:70], 6, 6)
+        self.at_once(block_factors, Table.same(6), greatest_blocks(Table.same(6)))
+
+    def test_16_cells(self):
+        tables = [~Table.same(4), Table.same(4), Table.filled(4, 4), Table.filled(4, 4, yes=True),
+                  Table.of_lots([(0, 2), (1, 3), (0, 2, 3), (1, 2, 3)], 4)]
+        tables += [Table.of_lots(lots, 4) for lots in product([(0, 1), (0, 1, 2), (1, 2, 3), (0, 3)], repeat=4)][::9]
+        for table in tables + [~Table.filled(3, 5), Table.of_lots([(0, 1, 2), (1, 2, 3), (0, 3, 4)], 5)]:
+            for function in [fewest_blocks, block_rank, apart_rank]:
+                self.at_once(function, table)
+
+    def test_ranks_and_verdicts(self):
+        for table in LARGEST:
+            self.at_once(row_rank, table)
+            self.at_once(column_rank, table)
+            self.at_once(are_apart, table, [(number, number) for number in range(6)] * 11)
+            verdict = self.at_once(verdict_of, table)
+            self.at_once(is_verdict, table, verdict)
+            self.at_once(read_verdict, self.at_once(verdict_lines, verdict))
+        self.at_once(is_rank_paper, Table.same(6), self.at_once(rank_paper, Table.same(6)))
+
+    def test_an_engine_with_200_deeds(self):
+        engine = Engine()
+        for number in range(200):
+            engine.store("abcdefgh"[number % 8], LARGEST[number % 4])
+        for function in [engine.undo, engine.redo]:
+            self.at_once(lambda: [function() for _ in range(200)])
+        for name in engine.names:
+            for function in [engine.way_of, engine.ranks_of, engine.verdict_for]:
+                self.at_once(function, name)
+        self.at_once(engine.solve_of, "a", "b")
+
+    def test_scripts(self):
+        five = "5:5:x..../.x.../..x../...x./....x"
+        for line in ["kin a a", "solve a a", "then b a a", "way a", "rank a", "put b " + five]:
+            self.at_once(run_script, f"put a {five}\n" + "\n".join([line] * 59))
+        for line in [" " * 4000, "a " * 2000, "put a " + "0:0:" * 990, "show " + "a" * 3995]:
+            self.at_once(run_line, Engine(), line)
+        self.at_once(parse_command, "put a " + five)

@@ -2,6 +2,7 @@
 
 import itertools
 import random
+import re
 
 from greatestback.tables import Table
 from support import lot_order, row_sets
@@ -265,6 +266,18 @@ def kin_order_of(table):
     return table_of(len(rows), len(rows), lambda i, j: within(rows[j], rows[i]))
 
 
+def order_paper_of(table):
+    """The order paper of point 53."""
+    unmade, rows = unmade_of(table), rows_of(table)
+    own = [own_of(table, row) for row in unmade]
+    return (
+        table_of(table.width, len(unmade), lambda k, j: k in own[j]),
+        Table.of_lots(unmade, table.width),
+        table_of(len(unmade), table.height, lambda j, i: i == rows.index(unmade[j])),
+        table_of(table.height, len(unmade), lambda i, j: within(unmade[j], rows[i])),
+    )
+
+
 def same_joins_of(first, second):
     """Point 56: equal sizes, joined rows and joined columns."""
     if (first.height, first.width) != (second.height, second.width) or joined_of(first) != joined_of(second):
@@ -277,6 +290,150 @@ def class_table_of(table, placing):
     unmade = unmade_of(table)
     lots = [join([unmade[placing[j]] for j, one in enumerate(unmade) if within(one, row)]) for row in rows_of(table)]
     return table_of(table.height, table.width, lambda i, k: k in lots[i])
+
+
+def yes_cells(table):
+    return [(i, k) for i in range(table.height) for k in range(table.width) if table.rows[i][k]]
+
+
+def is_full_block_of(table, value):
+    """Point 61: a pair of lots that are not empty, with yes in each cell."""
+    if type(value) is not tuple or len(value) != 2 or () in value:
+        return False
+    if not is_lot_below(value[0], table.height) or not is_lot_below(value[1], table.width):
+        return False
+    return all(table.rows[i][k] for i in value[0] for k in value[1])
+
+
+@remembered
+def full_blocks_of(table):
+    """All full blocks, in the order of point 61."""
+    lots = [lot_order(lot(one) for count in range(side + 1) for one in itertools.combinations(range(side), count))
+            for side in (table.height, table.width)]
+    return [(rows, columns) for columns in lots[1] for rows in lots[0] if is_full_block_of(table, (rows, columns))]
+
+
+@remembered
+def greatest_blocks_of(table):
+    """The full blocks that no other full block holds."""
+    blocks = full_blocks_of(table)
+    return [one for one in blocks
+            if not any(other != one and within(one[0], other[0]) and within(one[1], other[1]) for other in blocks)]
+
+
+def covers_of(table, blocks):
+    """True if each yes cell is in one of the blocks."""
+    return all(any(i in rows and k in columns for rows, columns in blocks) for i, k in yes_cells(table))
+
+
+def is_cover_of(table, value):
+    if type(value) not in (list, tuple) or not all(is_full_block_of(table, block) for block in value):
+        return False
+    return covers_of(table, value)
+
+
+def fewest_of(table):
+    """The least count of blocks of a cover: some block has the first cell that is left, whichever that is."""
+    blocks = greatest_blocks_of(table)
+
+    def needed(cells):
+        if not cells:
+            return 0
+        i, k = cells[0]
+        lefts = [[(a, b) for a, b in cells if a not in rows or b not in columns]
+                 for rows, columns in blocks if i in rows and k in columns]
+        return 1 + min(needed(left) for left in lefts)
+    return needed(yes_cells(table))
+
+
+def are_apart_of(table, value):
+    """Point 64: yes cells, none of them twice, and each two apart."""
+    if type(value) not in (list, tuple):
+        return False
+    for cell in value:
+        if type(cell) is not tuple or len(cell) != 2 or any(type(number) is not int for number in cell):
+            return False
+        if cell not in yes_cells(table):
+            return False
+    rows = table.rows
+    pairs = list(itertools.combinations(value, 2))
+    return all(one != other and (not rows[one[0]][other[1]] or not rows[other[0]][one[1]]) for one, other in pairs)
+
+
+def most_apart_of(table):
+    """The greatest count of apart cells, with every list of cells made longer as long as it can be."""
+    found, many = [()], 0
+    while True:
+        longer = [one + (cell,) for one in found for cell in yes_cells(table)
+                  if cell > max(one, default=(-1, -1)) and are_apart_of(table, one + (cell,))]
+        if not longer:
+            return many
+        found, many = longer, many + 1
+
+
+def is_rank_paper_of(table, value):
+    """Point 65: a number, as many full blocks that cover, and as many cells that are apart."""
+    if type(value) is not tuple or len(value) != 3 or type(value[0]) is not int:
+        return False
+    number, blocks, cells = value
+    if type(blocks) is not tuple or type(cells) is not tuple or [len(blocks), len(cells)] != [number, number]:
+        return False
+    return is_cover_of(table, blocks) and are_apart_of(table, cells)
+
+
+def rank_paper_of(table):
+    """The rank paper of the prime blocks and the apart cells."""
+    rows, unmade = rows_of(table), unmade_of(table)
+    blocks = tuple((lot(i for i, row in enumerate(rows) if within(one, row)), one) for one in unmade)
+    cells = tuple((rows.index(one), min(own_of(table, one))) for one in unmade)
+    return (len(unmade), blocks, cells)
+
+
+def word_told(table):
+    """Point 15: the word of a table."""
+    rows = "/".join("".join("x" if cell else "." for cell in row) for row in table.rows)
+    return f"{table.height}:{table.width}:{rows}"
+
+
+def is_word_told(text):
+    """True if the text is the word of some table."""
+    told = re.fullmatch(r"([0-6]):([0-6]):([x./]*)", text)
+    if not told:
+        return False
+    height, width = int(told[1]), int(told[2])
+    # No rows are written like one row without columns.
+    return [len(row) for row in told[3].split("/")] == [width] * height or (height == 0 and told[3] == "")
+
+
+def lot_told(lot):
+    """Point 16: the text of a lot."""
+    return ",".join(str(number) for number in lot) or "-"
+
+
+def verdict_told(table):
+    """The verdict of the program, as point 66 tells its parts."""
+    if bad_of(table):
+        return ("bad", first_bad_paper_of(table))
+    return ("back", greatest_under_of(table), kin_order_of(table), order_paper_of(table), rank_paper_of(table))
+
+
+def is_name_told(value):
+    """Point 68: one to eight letters a to z."""
+    return type(value) is str and 1 <= len(value) <= 8 and all(sign in "abcdefghijklmnopqrstuvwxyz" for sign in value)
+
+
+def is_verdict_of(table, value):
+    """Point 66: what a verdict is."""
+    if type(value) is not tuple or len(value) not in (2, 5) or type(value[0]) is not str:
+        return False
+    if len(value) == 2:
+        return value[0] == "bad" and is_bad_paper_of(table, value[1])
+    kind, way, order, papers, ranks = value
+    if kind != "back" or not isinstance(way, Table) or not crosswise_of(table, way) or back_of(table, way) != table:
+        return False
+    if not isinstance(order, Table) or order.height != order.width or fault_of(order) is not None:
+        return False
+    return is_kin_paper_of(table, order, papers) and is_rank_paper_of(table, ranks) and ranks[0] == order.height
 
 
 def orders_below(most):
