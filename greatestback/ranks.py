@@ -41,9 +41,10 @@ def are_apart(table, value):
     """True if value is a list or tuple of yes cells of the table, each two of which are apart."""
     if not isinstance(value, (list, tuple)):
         return False
-    if not all([is_number_pair(cell, table.size) and table[cell] for cell in value]):
+    cells = list(value)
+    if not all([is_number_pair(cell, table.size) and table[cell] for cell in cells]):
         return False
-    return all([_is_apart(table, one, other) for one, other in combinations(list(value), 2)])
+    return all([_is_apart(table, one, other) for one, other in combinations(cells, 2)])
 
 
 def _is_apart(table, one, other):
