@@ -2,7 +2,7 @@
 
 from greatestback.checks import check_many
 from greatestback.engine import Engine
-from greatestback.errors import BadText, GreatestbackError
+from greatestback.errors import BadName, BadText, NoFit, NoName, NoWayBack, TooMany, UnlikeSizes
 from greatestback.lots import SIDE
 from greatestback.tabletext import format_lot, format_word, is_digit, parse_word
 
@@ -138,8 +138,20 @@ def run_line(engine, line):
     """Run one line in the engine and return its answer."""
     try:
         return _answer(engine, parse_command(line))
-    except GreatestbackError as error:
-        return "refused " + type(error).__name__
+    except BadText:
+        return "refused BadText"
+    except BadName:
+        return "refused BadName"
+    except NoName:
+        return "refused NoName"
+    except NoFit:
+        return "refused NoFit"
+    except UnlikeSizes:
+        return "refused UnlikeSizes"
+    except TooMany:
+        return "refused TooMany"
+    except NoWayBack:
+        return "refused NoWayBack"
 
 
 def _answer(engine, words):

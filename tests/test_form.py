@@ -11,7 +11,7 @@ FILES = sorted(PACKAGE.iterdir())
 LIBRARY = {"heapq", "math", "itertools", "collections"}
 BUILTINS = {
     "len", "range", "enumerate", "zip", "min", "max", "sum", "abs", "sorted", "reversed", "int", "str", "bool", "list",
-    "tuple", "dict", "set", "isinstance", "ord", "repr", "any", "all", "divmod", "iter", "next", "map", "type",
+    "tuple", "dict", "set", "isinstance", "ord", "repr", "any", "all", "divmod", "iter", "next", "map",
 }
 TAKE_LISTS = {"sorted", "any", "all", "sum", "min", "max"}
 BARRED = (ast.AsyncFunctionDef, ast.Await, ast.Div, ast.Import)
@@ -118,12 +118,6 @@ class Form(unittest.TestCase):
                         self.assertIn(node.func.attr, own | METHODS, place)
                 if isinstance(node, ast.Raise):
                     self.assertTrue(isinstance(node.exc, ast.Call) and node.exc.func.id in own, f"{name}:{node.lineno}")
-
-    def test_classes_are_told_by_their_names_alone(self):
-        for name, _, tree in self.trees():
-            named = [node.value for node in ast.walk(tree) if isinstance(node, ast.Attribute) and node.attr == "__name__"]
-            asked = [node for node in ast.walk(tree) if isinstance(node, ast.Name) and node.id == "type"]
-            self.assertEqual([call.func for call in named], asked, name)
 
     def test_only_own_errors_are_caught(self):
         own = [node.name for name, _, tree in self.trees() if name == "errors.py" for node in tree.body
