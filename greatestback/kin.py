@@ -28,7 +28,11 @@ def _moved(placing, lot):
 
 def _carries(placing, lots, targets):
     """True if the placing sends each of the lots to one of the targets."""
-    return all([_moved(placing, lot) in targets for lot in lots])
+    # Most placings fail at one of the first lots: the others are not looked at then.
+    for lot in lots:
+        if _moved(placing, lot) not in targets:
+            return False
+    return True
 
 
 def is_match(first, second, value):
@@ -77,6 +81,10 @@ def _carried(first, second, placing, lot):
 def paper_of_match(first, second, placing):
     """The kin paper of the match placing from first to second."""
     _check_match(first, second, placing)
+    return _paper_of(first, second, placing)
+
+
+def _paper_of(first, second, placing):
     there = _columns_carried(first, second, placing)
     back = _columns_carried(second, first, placing_back(placing))
     reached = first * back
@@ -94,7 +102,7 @@ def _columns_carried(first, second, placing):
 def kin_paper(first, second):
     """The kin paper of the first match, or None if there is no match."""
     placing = first_match(first, second)
-    return None if placing is None else paper_of_match(first, second, placing)
+    return None if placing is None else _paper_of(first, second, placing)
 
 
 def are_kin(first, second):

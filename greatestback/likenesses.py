@@ -1,7 +1,5 @@
 """Placings, and the placings that are likenesses from one order to another."""
 
-from itertools import permutations
-
 from greatestback.checks import check_many, check_number, check_placing, is_placing_of
 from greatestback.edits import place_columns, place_rows
 from greatestback.lots import SIDE
@@ -49,21 +47,41 @@ def _seen_through(order, placing):
 
 def first_likeness(order, other):
     """The first likeness from order to other in the order of placings, or None."""
+    check_orders([order, other])
+    check_many(order.height, LIKENESS_LIMIT)
+    check_many(other.height, LIKENESS_LIMIT)
     found = _likenesses_between(order, other)
     return found[0] if found else None
 
 
 def likenesses(order):
     """The list of all likenesses of the order, in the order of placings."""
+    check_orders([order])
+    check_many(order.height, LIKENESS_LIMIT)
     return _likenesses_between(order, order)
 
 
 def _likenesses_between(order, other):
     """The list of all likenesses from order to other, in the order of placings."""
-    check_orders([order, other])
-    check_many(order.height, LIKENESS_LIMIT)
-    check_many(other.height, LIKENESS_LIMIT)
-    return [placing for placing in permutations(range(order.height)) if is_likeness(order, other, placing)]
+    if order.height != other.height:
+        return []
+    # Trying all placings whole takes long: here a beginning that is unlike order is not made longer.
+    beginnings = [()]
+    relations = _relations(other)
+    for thing, wanted in enumerate(_relations(order)):
+        beginnings = _made_longer(beginnings, relations, wanted[:thing])
+    return beginnings
+
+
+def _relations(order):
+    """A list for each thing i, with the pair of the cells (i, j) and (j, i) for each thing j."""
+    return [list(zip(row, column)) for row, column in zip(order.rows, order.columns)]
+
+
+def _made_longer(beginnings, relations, wanted):
+    """The beginnings with one number more, one that has the wanted relations to those before it."""
+    return [before + (number,) for before in beginnings for number, told in enumerate(relations)
+            if number not in before and [told[one] for one in before] == wanted]
 
 
 def place_order(order, placing):

@@ -68,17 +68,22 @@ def lot_without(first, second):
 def holds(first, second):
     """True if first holds second."""
     _check_lots([first, second])
+    return _has_all(first, second)
+
+
+def _has_all(first, second):
+    # Nothing is checked here: of lots that the program worked out itself, that takes longer than the answer.
     return all([number in first for number in second])
 
 
 def numbers_within(lots, lot):
     """The lot of the numbers of those lots, in a list, that are within lot."""
-    return tuple([number for number, other in enumerate(lots) if holds(lot, other)])
+    return tuple([number for number, other in enumerate(lots) if _has_all(lot, other)])
 
 
 def numbers_holding(lots, lot):
     """The lot of the numbers of those lots, in a list, that hold lot."""
-    return tuple([number for number, other in enumerate(lots) if holds(other, lot)])
+    return tuple([number for number, other in enumerate(lots) if _has_all(other, lot)])
 
 
 def sorted_lots(lots):

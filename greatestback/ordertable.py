@@ -20,23 +20,22 @@ def order_fault(table):
 
 
 def _fault_of(table):
-    things = range(table.height)
-    for thing in things:
-        if not table[thing, thing]:
+    lots = table.row_lots
+    for thing, lot in enumerate(lots):
+        if thing not in lot:
             return ("self", thing)
-    for one in things:
-        for other in range(one + 1, table.height):
-            if table[one, other] and table[other, one]:
+    for one, lot in enumerate(lots):
+        for other in lot:
+            if one < other and one in lots[other]:
                 return ("both", one, other)
-    return _through_fault(table)
+    return _through_fault(lots)
 
 
-def _through_fault(table):
-    things = range(table.height)
-    for high in things:
-        for middle in things:
-            for low in things:
-                if table[high, middle] and table[middle, low] and not table[high, low]:
+def _through_fault(lots):
+    for high, lot in enumerate(lots):
+        for middle in lot:
+            for low in lots[middle]:
+                if low not in lot:
                     return ("through", high, middle, low)
     return None
 

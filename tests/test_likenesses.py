@@ -4,13 +4,16 @@ import itertools
 import random
 
 from greatestback.errors import BadPlace, NotOrder, NotSquare, TooMany
+from greatestback.kin import are_kin, first_match
 from greatestback.likenesses import (
     LIKENESS_LIMIT, first_likeness, is_likeness, is_placing, likenesses, place_order, placing_back, placing_then,
 )
 from greatestback.ordertable import is_order, order_of_pairs
 from greatestback.tables import Table
 from support import ODD, Case, is_int, near
-from words import fault_of, is_likeness_of, is_placing_told, likenesses_of, orders_below, some_orders, table_of
+from words import (
+    fault_of, is_likeness_of, is_match_of, is_placing_told, likenesses_of, orders_below, some_orders, table_of,
+)
 
 SMALL = orders_below(3)
 FOURS = [order for order in orders_below(4) if order.height == 4]
@@ -35,6 +38,39 @@ def placed_of(order, placing):
     """The order with F[placing[i], placing[j]] equal to E[i, j]."""
     where = {number: place for place, number in enumerate(placing)}
     return table_of(order.height, order.height, lambda a, b: order.rows[where[a]][where[b]])
+
+
+def drawn_order(source, many):
+    """A drawn order: each thing has some of the things named before it below it, with all that is below those."""
+    names, share, below = source.sample(range(many), many), source.choice([5, 20, 30, 40, 60]), {}
+    for place, name in enumerate(names):
+        lower = [one for one in names[:place] if source.randrange(100) < share]
+        below[name] = {name}.union(*[below[one] for one in lower])
+    return table_of(many, many, lambda i, j: j in below[i])
+
+
+def one_pair_less(source, order):
+    """The order without a drawn pair of a thing directly below another one, if it has such a pair."""
+    below = {(i, j) for i, j in itertools.permutations(range(order.height), 2) if order.rows[i][j]}
+    direct = sorted(below - {(i, k) for i, j in below for other, k in below if other == j})
+    gone = source.choice(direct) if direct else None
+    return table_of(order.height, order.height, lambda i, j: order.rows[i][j] and (i, j) != gone)
+
+
+def drawn_pairs(many_pairs, seed=9):
+    """Pairs of drawn orders of 0 to 5 things: alike ones, nearly alike ones, and any; the same ones in each run."""
+    source = random.Random(seed)
+    pairs = []
+    for number in range(many_pairs):
+        order = drawn_order(source, source.choice([0, 1, 2, 3, 4, 4, 5, 5, 5]))
+        others = [order, order, Table(order.columns), one_pair_less(source, order),
+                  drawn_order(source, order.height), drawn_order(source, source.randrange(6))]
+        other = others[number % 6]
+        pairs.append((order, placed_of(other, tuple(source.sample(range(other.height), other.height)))))
+    return pairs
+
+
+DRAWN = drawn_pairs(480)
 
 
 class Placings(Case):
@@ -177,6 +213,48 @@ class Likenesses(Case):
                 other = placed_of(order, placing)
                 self.assertIs(is_likeness(order, other, placing), True)
                 self.assertIs(is_likeness(order, order, placing), other == order)
+
+
+class DrawnOrders(Case):
+
+    def test_the_pairs_are_of_each_kind(self):
+        self.assertEqual({(fault_of(order), fault_of(other)) for order, other in DRAWN}, {(None, None)})
+        self.assertEqual({order.height for order, _ in DRAWN}, set(range(6)))
+        fives = [likenesses_of(order, other) for order, other in DRAWN if order.height == other.height == 5]
+        self.assertGreater(len([found for found in fives if not found]), 40)
+        self.assertGreater(len([found for found in fives if found and found[0] != (0, 1, 2, 3, 4)]), 40)
+        self.assertLessEqual({0, 1, 2, 4, 6, 120}, {len(found) for found in fives})
+        self.assertGreater(len([order for order, other in DRAWN if order.height != other.height]), 5)
+
+    def test_each_answer_asked_twice_against_a_search_of_all_placings(self):
+        for order, other in DRAWN:
+            rows = order.rows, other.rows
+            between, back = likenesses_of(order, other), likenesses_of(other, order)
+            for _ in range(2):
+                self.same(first_likeness(order, other), between[0] if between else None)
+                self.same(first_likeness(other, order), back[0] if back else None)
+                self.same(likenesses(order), likenesses_of(order, order))
+                self.same(likenesses(other), likenesses_of(other, other))
+            self.same((order.rows, other.rows), rows)
+
+    def test_every_way_to_ask(self):
+        for order, other in DRAWN[::5]:
+            told = likenesses_of(order, other)
+            self.answers(told[0] if told else None, first_likeness, order, other)
+            self.answers(likenesses_of(order, order), likenesses, order)
+
+    def test_orders_are_kin_just_where_they_are_alike(self):
+        for order, other in DRAWN:
+            alike = first_likeness(order, other) is not None
+            for _ in range(2):
+                self.assertIs(are_kin(order, other), alike)
+                self.assertIs(first_match(order, other) is not None, alike)
+
+    def test_first_matches_against_a_search_of_all_placings(self):
+        for order, other in DRAWN[::8]:
+            placings = itertools.permutations(range(order.height))
+            told = [placing for placing in placings if is_match_of(order, other, placing)]
+            self.same(first_match(order, other), told[0] if told else None)
 
 
 class PlacedOrders(Case):

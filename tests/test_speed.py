@@ -36,6 +36,9 @@ from greatestback.wayback import all_ways, is_way_paper, leads_back, mutual_way,
 # Far more than any call needs, and far less than one that tries all choices of 64 joined rows.
 SECONDS = 2
 
+# So many calls for likenesses or matches of five things take no longer than that together.
+CALLS = 200
+
 # The first one has 64 joined rows, the last one 40 and a bad row.
 LARGEST = [Table.same(6), ~Table.same(6), Table.filled(6, 6, yes=True),
            Table.of_lots([(0, 1), (0, 2), (1, 2), (3,), (4,), (5,)], 6)]
@@ -150,6 +153,16 @@ class Speed(unittest.TestCase):
                 self.at_once(first_likeness, order, other)
         self.at_once(is_likeness, Table.same(6), Table.same(6), (5, 4, 3, 2, 1, 0))
         self.at_once(place_order, Table.same(6), (5, 4, 3, 2, 1, 0))
+
+    def test_many_calls_for_likenesses_and_matches_of_five_things(self):
+        chain = Table([[j >= i for j in range(5)] for i in range(5)])
+        orders = [Table.same(5), chain, order_of_pairs(5, [(4, 0)])]
+        for order in orders:
+            for function in [likenesses, class_size]:
+                self.at_once(lambda: [function(order) for _ in range(CALLS)])
+            for other in orders:
+                for function in [first_likeness, first_match, are_kin]:
+                    self.at_once(lambda: [function(order, other) for _ in range(CALLS)])
 
     def test_classes(self):
         self.assertEqual(len(self.at_once(class_tables, Table.same(5))), 120)
